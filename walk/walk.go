@@ -1,8 +1,11 @@
-// Package walk goes through two trees at once, of any size and depth, and ends also at such as stand in themselves. Types and values that aren't formed may be so.
+// Package walk goes through trees of any size and depth, and ends also at such as stand in themselves. Types, values and expressions that aren't formed may be so.
 package walk
 
-// stretch is how many nodes are gone through by one recursion: great enough for all formed types and most values, small enough for the stack.
-const stretch = 1000
+// How many nodes are gone through by one recursion. The first one is great enough for all formed types, values and expressions, and small enough for the stack. The others are short: where a list stands in many places, each of them goes through some of it again.
+const (
+	firstStretch = 4000
+	stretch      = 64
+)
 
 // walk goes through two trees of like form. A tree may stand in itself by way of its Parts' memory; so after each stretch what is left is put off till the recursion is over, and nothing is put off twice.
 type walk[T any] struct {
@@ -26,7 +29,7 @@ type place[T any] struct {
 
 // Everywhere tells whether it holds of both trees and of all Parts that stand in like places of them. What is asked sees to it that both have as many Parts, or both are one tree.
 func Everywhere[T any](s, t T, parts func(T) []T, holds func(s, t T) bool) bool {
-	w := walk[T]{parts: parts, holds: holds, left: stretch}
+	w := walk[T]{parts: parts, holds: holds, left: firstStretch}
 	if !holds(s, t) || !w.through(parts(s), parts(t)) {
 		return false
 	}

@@ -45,6 +45,19 @@ func shared(deep int, last tree) tree {
 	return last
 }
 
+// sharedRow is a tree, 20 deep, whose Parts, so many each, are one and the same list everywhere, with last at the end of the deepest.
+func sharedRow(wide int, last tree) tree {
+	t := row(wide, last)
+	for range 18 {
+		parts := make([]tree, wide)
+		for i := range parts {
+			parts[i] = t
+		}
+		t = tree{parts: parts}
+	}
+	return t
+}
+
 // ring is a tree that stands in itself behind these numbers.
 func ring(numbers ...int) tree {
 	parts := make([][]tree, len(numbers))
@@ -61,7 +74,7 @@ func ring(numbers ...int) tree {
 func TestLastNode(t *testing.T) {
 	made := map[string]func(size int, last tree) tree{"line": line, "row": row, "shared": shared}
 	for name, make := range made {
-		for _, size := range []int{1, 2, 3, 500, 998, 999, 1000, 1001, 1002, 1003, 2001, 2002, 2003, 5000} {
+		for _, size := range []int{1, 2, 3, 500, 1999, 2000, 2001, 3998, 3999, 4000, 4001, 4002, 4003, 4063, 4064, 4065, 4066, 4127, 4128, 4129, 4130, 8001, 10000} {
 			s, alike, unlike := make(size, tree{n: 1}), make(size, tree{n: 1}), make(size, tree{n: 2})
 			if !same(s, alike) || !same(s, s) {
 				t.Errorf("%s of %d isn't alike", name, size)
@@ -69,6 +82,16 @@ func TestLastNode(t *testing.T) {
 			if same(s, unlike) || same(unlike, s) {
 				t.Errorf("%s of %d: the last one isn't seen", name, size)
 			}
+		}
+	}
+}
+
+// TestSharedRow: a list that stands in very many places is gone through to its last one.
+func TestSharedRow(t *testing.T) {
+	for _, wide := range []int{2, 63, 64, 65, 300, 1000} {
+		s, unlike := sharedRow(wide, tree{n: 1}), sharedRow(wide, tree{n: 2})
+		if !same(s, s) || same(s, unlike) || same(unlike, s) {
+			t.Errorf("%d wide: the last one isn't seen", wide)
 		}
 	}
 }
@@ -85,11 +108,11 @@ func TestGreat(t *testing.T) {
 
 // TestRings: what stands in itself is told by what it would be if gone through for ever.
 func TestRings(t *testing.T) {
-	if !same(ring(0), ring(0, 0, 0)) || !same(ring(0, 1), ring(0, 1, 0, 1)) || same(ring(0, 1), ring(1, 0)) || same(ring(0, 1, 0), ring(0, 1)) || same(ring(0), line(5000, tree{})) {
+	if !same(ring(0), ring(0, 0, 0)) || !same(ring(0, 1), ring(0, 1, 0, 1)) || same(ring(0, 1), ring(1, 0)) || same(ring(0, 1, 0), ring(0, 1)) || same(ring(0), line(9000, tree{})) {
 		t.Error("short rings")
 	}
-	long := make([]int, 3001)
-	long[3000] = 1
+	long := make([]int, 9001)
+	long[9000] = 1
 	if same(ring(long...), ring(0)) || !same(ring(long...), ring(append(long, long...)...)) {
 		t.Error("long rings")
 	}
@@ -97,10 +120,10 @@ func TestRings(t *testing.T) {
 
 // TestListsOfOneBeginning: lists that begin at one place and are of unlike lengths are told apart.
 func TestListsOfOneBeginning(t *testing.T) {
-	parts := row(5000, tree{n: 1}).parts
-	s := tree{parts: []tree{{parts: parts[:4999]}, {parts: parts}}}
-	other := row(5000, tree{n: 2}).parts
-	u := tree{parts: []tree{{parts: other[:4999]}, {parts: other}}}
+	parts := row(9000, tree{n: 1}).parts
+	s := tree{parts: []tree{{parts: parts[:8999]}, {parts: parts}}}
+	other := row(9000, tree{n: 2}).parts
+	u := tree{parts: []tree{{parts: other[:8999]}, {parts: other}}}
 	if same(s, u) || !same(s, s) {
 		t.Error("the last of the longer list isn't seen")
 	}
