@@ -1,0 +1,120 @@
+package eval
+
+import (
+	"slices"
+
+	"palisade/api"
+)
+
+// run is a program's run. What is begun stands in a list, not on the stack of this program: one that calls itself may go deeper than that would bear.
+type run struct {
+	functions []*node
+	frames    []frame
+	values    []api.Value
+	cells     []api.Cell
+	trace     []api.Event
+	fuel      int
+	steps     int
+	ended     int // how; 0, while it goes on
+	last      api.Value
+}
+
+// frame is an expression that is begun, and the names with values where it stands. When it is the last one, the run's values from below on are those of its Parts that are done.
+type frame struct {
+	node  *node
+	names *named
+	below int
+}
+
+func newRun(heap []api.Cell, fuel int) *run {
+	return &run{cells: slices.Clone(heap), fuel: fuel}
+}
+
+func (r *run) begin(n *node, names *named) {
+	r.frames = append(r.frames, frame{n, names, len(r.values)})
+}
+
+// give is told the value of the expression that was taken off last.
+func (r *run) give(v api.Value) {
+	r.values = append(r.values, v)
+}
+
+func (r *run) end(how int, v api.Value) {
+	r.ended, r.last = how, v
+}
+
+// endWithout ends otherwise than with a value.
+func (r *run) endWithout(how int) {
+	r.end(how, api.Value{})
+}
+
+func (r *run) toEnd() {
+	for r.ended == 0 {
+		r.goOn()
+	}
+}
+
+// goOn goes on with what was begun last: it begins its next Part, or does what is to be done when the values that it needs are there.
+func (r *run) goOn() {
+	top := len(r.frames) - 1
+	if top < 0 {
+		r.end(api.Returned, r.values[0])
+		return
+	}
+	f := r.frames[top]
+	done := r.values[f.below:]
+	if f.node.needs(len(done)) {
+		r.begin(f.node.parts[len(done)], f.names)
+		return
+	}
+	var given [2]api.Value
+	copy(given[:], done)
+	r.takeOff(top)
+	r.act(f, given[0], given[1])
+}
+
+// takeOff takes off the frames from top on, and their values.
+func (r *run) takeOff(top int) {
+	r.values = r.values[:r.frames[top].below]
+	r.frames = r.frames[:top]
+}
+
+// act does what is a step, and what is none.
+func (r *run) act(f frame, first, second api.Value) {
+	switch f.node.Kind {
+	case api.ELet:
+		r.begin(f.node.parts[1], f.names.with(f.node.Text, first))
+	case api.ESeq:
+		r.begin(f.node.parts[1], f.names)
+	case api.ETry:
+		r.give(first)
+	default:
+		r.step(f, first, second)
+	}
+}
+
+func (r *run) step(f frame, first, second api.Value) {
+	if r.steps == r.fuel {
+		r.endWithout(api.OutOfFuel)
+		return
+	}
+	r.steps++
+	if !f.node.takes(first, second) {
+		r.endWithout(api.Stuck)
+		return
+	}
+	r.do(f.node, f.names, first, second)
+}
+
+// raise goes on with what the last ETry that is begun does else: its first Part isn't done, as it is taken off then.
+func (r *run) raise(v api.Value) {
+	for top := len(r.frames) - 1; top >= 0; top-- {
+		f := r.frames[top]
+		if f.node.Kind == api.ETry {
+			r.takeOff(top)
+			r.begin(f.node.parts[1], f.names.with(f.node.Text, v))
+			return
+		}
+	}
+	r.end(api.Raised, v)
+}
