@@ -115,7 +115,7 @@ func TestSharedFunctions(t *testing.T) {
 	tellsOne(t, around(api.Expr{Kind: api.EPair, Parts: []api.Expr{{Kind: api.EPair, Parts: parts}, {Kind: api.EPair, Parts: parts}}}), integer(4), nil, 100, "returned p[p[f1[] f3[]] p[f5[] f7[]]],,, 7")
 }
 
-// TestNumbersUnformed (P9.2): of expressions that aren't formed as layer 8 has it; none of those that are too great for it.
+// TestNumbersUnformed (P9.2): of expressions that aren't formed, too.
 func TestNumbersUnformed(t *testing.T) {
 	f := function("f", "n", number(1))
 	odd := api.Expr{Kind: api.EFun, Parts: []api.Expr{f, {Kind: 77, Parts: []api.Expr{f, f, number(-1)}}, {Kind: api.EVar, Parts: []api.Expr{f}}}}
@@ -125,25 +125,56 @@ func TestNumbersUnformed(t *testing.T) {
 	if eval.Numbers(api.Expr{}) != 0 || eval.Numbers(api.Expr{Kind: api.EFun}) != 1 {
 		t.Error("no Kind, or no Parts")
 	}
-	wide := expr(api.ESeq)
-	for range api.MaxTokens - 1 {
-		wide.Parts = append(wide.Parts, api.Expr{Kind: api.EFun})
+}
+
+// TestNumbersDeep (P9.2): as deep as layer 8 tells a Table of, and deeper: of functions within functions, and of one within other nodes.
+func TestNumbersDeep(t *testing.T) {
+	for _, deep := range []int{1, 2, api.MaxNest - 2, api.MaxNest - 1, api.MaxNest, api.MaxNest + 1, 100, 5000} {
+		nested, one, last := number(1), function("f", "n", number(0)), function("f", "n", number(0))
+		for range deep {
+			nested = function("f", "n", nested)
+			one = expr(api.ENot, one)
+			last = expr(api.EPair, function("g", "m", number(1)), last)
+		}
+		if got := eval.Numbers(nested); got != deep {
+			t.Errorf("%d functions, one in the other: %d", deep, got)
+		}
+		if got := eval.Numbers(one); got != 1 {
+			t.Errorf("a function %d deep: %d", deep, got)
+		}
+		if got := eval.Numbers(last); got != deep+1 {
+			t.Errorf("a function beside each of %d nodes: %d", deep, got)
+		}
 	}
-	if got := eval.Numbers(wide); got != api.MaxTokens-1 {
-		t.Error(got)
+}
+
+// TestNumbersMany (P9.2): as many nodes as layer 8 tells a Table of, and more, in memory of their own or not.
+func TestNumbersMany(t *testing.T) {
+	for _, many := range []int{1, api.MaxTokens / 2, api.MaxTokens - 2, api.MaxTokens - 1, api.MaxTokens, api.MaxTokens + 1, 50_000} {
+		bare, full, others := make([]api.Expr, many), make([]api.Expr, many), make([]api.Expr, many)
+		f := function("f", "n", number(1))
+		for i := range many {
+			bare[i], full[i], others[i] = api.Expr{Kind: api.EFun}, f, number(1)
+		}
+		if got := eval.Numbers(expr(api.ESeq, bare...)); got != many {
+			t.Errorf("%d functions without Parts: %d", many, got)
+		}
+		if got := eval.Numbers(expr(api.ESeq, full...)); got != many {
+			t.Errorf("%d functions that share a Part: %d", many, got)
+		}
+		if got := eval.Numbers(expr(api.ESeq, append(others, f)...)); got != 1 {
+			t.Errorf("a function behind %d others: %d", many, got)
+		}
 	}
-	wide.Parts = append(wide.Parts, number(1))
-	if got := eval.Numbers(wide); got != 0 {
-		t.Error(got)
-	}
-	deep := number(1)
-	for range api.MaxNest - 1 {
-		deep = function("f", "n", deep)
-	}
-	if got := eval.Numbers(deep); got != api.MaxNest-1 {
-		t.Error(got)
-	}
-	if got := eval.Numbers(function("f", "n", deep)); got != 0 {
-		t.Error(got)
+}
+
+// TestNumbersShared (P9.2): a function counts in each place where it stands, whatever memory these share.
+func TestNumbersShared(t *testing.T) {
+	e := function("f", "n", number(1))
+	for deep := range 62 {
+		if got := eval.Numbers(e); got != 1<<deep {
+			t.Errorf("%d deep: %d", deep, got)
+		}
+		e = expr(api.EPair, e, e)
 	}
 }

@@ -32,7 +32,7 @@ func great() []api.Expr {
 	fun := make([]api.Expr, 1)
 	fun[0] = function("f", "n", number(1))
 	fun[0].Parts = fun
-	return []api.Expr{deep, shared, expr(api.ESeq, wide...), ring[0], fun[0], expr(api.ESeq, number(1), fun[0])}
+	return []api.Expr{deep, shared, expr(api.ESeq, wide...), ring[0], fun[0], expr(api.ESeq, number(1), fun[0]), expr(api.EPair, ring[0], function("f", "n", ring[0]))}
 }
 
 // greatTypes are of very many nodes, one of them a ring.
@@ -53,10 +53,11 @@ func greatTypes() []api.Type {
 
 // TestNothingPanics (R1): arguments of all sorts and sizes.
 func TestNothingPanics(t *testing.T) {
-	for _, e := range great() {
+	numbers := []int{1_000_000, math.MaxInt, 300_000, 0, math.MaxInt, math.MaxInt, 1}
+	for i, e := range great() {
 		refuses(t, around(e), integer(1), nil, 100)
-		if got := eval.Numbers(e); got != 0 {
-			t.Error(got)
+		if got := eval.Numbers(e); got != numbers[i] {
+			t.Errorf("%d functions; want %d", got, numbers[i])
 		}
 		p := program(t, "1")
 		p.Body = e
