@@ -1,22 +1,16 @@
 package eval
 
 import (
-	"slices"
-
 	"palisade/api"
+	"palisade/runs"
 )
 
 // run is a program's run. What is begun stands in a list, not on the stack of this program: one that calls itself may go deeper than that would bear.
 type run struct {
+	runs.Run
 	functions []*node
 	frames    []frame
 	values    []api.Value
-	cells     []api.Cell
-	trace     []api.Event
-	fuel      int
-	steps     int
-	ended     int // how; 0, while it goes on
-	last      api.Value
 }
 
 // frame is an expression that is begun, and the names with values where it stands. When it is the last one, the run's values from below on are those of its Parts that are done.
@@ -24,10 +18,6 @@ type frame struct {
 	node  *node
 	names *named
 	below int
-}
-
-func newRun(heap []api.Cell, fuel int) *run {
-	return &run{cells: slices.Clone(heap), fuel: fuel}
 }
 
 func (r *run) begin(n *node, names *named) {
@@ -39,17 +29,8 @@ func (r *run) give(v api.Value) {
 	r.values = append(r.values, v)
 }
 
-func (r *run) end(how int, v api.Value) {
-	r.ended, r.last = how, v
-}
-
-// endWithout ends otherwise than with a value.
-func (r *run) endWithout(how int) {
-	r.end(how, api.Value{})
-}
-
 func (r *run) toEnd() {
-	for r.ended == 0 {
+	for r.Goes() {
 		r.goOn()
 	}
 }
@@ -58,7 +39,7 @@ func (r *run) toEnd() {
 func (r *run) goOn() {
 	top := len(r.frames) - 1
 	if top < 0 {
-		r.end(api.Returned, r.values[0])
+		r.End(api.Returned, r.values[0])
 		return
 	}
 	f := r.frames[top]
@@ -94,13 +75,11 @@ func (r *run) act(f frame, first, second api.Value) {
 }
 
 func (r *run) step(f frame, first, second api.Value) {
-	if r.steps == r.fuel {
-		r.endWithout(api.OutOfFuel)
+	if !r.Step() {
 		return
 	}
-	r.steps++
 	if !f.node.takes(first, second) {
-		r.endWithout(api.Stuck)
+		r.Stop(api.Stuck)
 		return
 	}
 	r.do(f.node, f.names, first, second)
@@ -116,5 +95,5 @@ func (r *run) raise(v api.Value) {
 			return
 		}
 	}
-	r.end(api.Raised, v)
+	r.End(api.Raised, v)
 }

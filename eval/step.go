@@ -1,9 +1,6 @@
 package eval
 
-import (
-	"palisade/api"
-	"palisade/value"
-)
+import "palisade/api"
 
 func integer(n int64) api.Value {
 	return api.Value{Kind: api.Int, N: n}
@@ -38,7 +35,7 @@ func (r *run) do(n *node, names *named, first, second api.Value) {
 	case api.ESecond:
 		r.give(first.Parts[1])
 	case api.ENew:
-		r.newCell(n.Type, first)
+		r.give(r.NewCell(n.Type, first))
 	case api.EGet:
 		r.get(first)
 	case api.ESet:
@@ -57,7 +54,7 @@ func (r *run) do(n *node, names *named, first, second api.Value) {
 func (r *run) look(n *node, names *named) {
 	v, ok := names.find(n.Text)
 	if !ok {
-		r.endWithout(api.Stuck)
+		r.Stop(api.Stuck)
 		return
 	}
 	r.give(v)
@@ -74,7 +71,7 @@ func (r *run) choose(n *node, names *named, holds bool) {
 func (r *run) makeFun(n *node, names *named) {
 	captured, ok := names.all(n.caps)
 	if !ok {
-		r.endWithout(api.Stuck)
+		r.Stop(api.Stuck)
 		return
 	}
 	r.build(api.Value{Kind: api.Fun, N: n.number, Parts: captured})
@@ -82,18 +79,16 @@ func (r *run) makeFun(n *node, names *named) {
 
 // build gives a Pair or a Fun that is new.
 func (r *run) build(v api.Value) {
-	if value.Nodes(v) > api.MaxValue {
-		r.endWithout(api.Exhausted)
-		return
+	if r.Fits(v) {
+		r.give(v)
 	}
-	r.give(v)
 }
 
 // call goes on within the function, where no other names have values than those that it has of its own.
 func (r *run) call(fun, given api.Value) {
 	f, ok := r.function(fun.N)
 	if !ok || len(fun.Parts) != len(f.caps) {
-		r.endWithout(api.Stuck)
+		r.Stop(api.Stuck)
 		return
 	}
 	var names *named
@@ -103,40 +98,20 @@ func (r *run) call(fun, given api.Value) {
 	r.begin(f.parts[0], names.with(f.Text, fun).with(f.Arg, given))
 }
 
-func (r *run) newCell(t api.Type, v api.Value) {
-	r.cells = append(r.cells, api.Cell{Type: t, Value: v})
-	r.give(api.Value{Kind: api.Ref, N: int64(len(r.cells) - 1)})
-}
-
-// cell is the one of a Ref, and whether there is one.
-func (r *run) cell(ref api.Value) (*api.Cell, bool) {
-	if ref.N >= int64(len(r.cells)) {
-		return nil, false
-	}
-	return &r.cells[ref.N], true
-}
-
 func (r *run) get(ref api.Value) {
-	c, ok := r.cell(ref)
-	if !ok {
-		r.endWithout(api.Stuck)
-		return
+	if v, ok := r.Get(ref); ok {
+		r.give(v)
 	}
-	r.give(c.Value)
 }
 
 func (r *run) set(ref, v api.Value) {
-	c, ok := r.cell(ref)
-	if !ok {
-		r.endWithout(api.Stuck)
-		return
+	if r.Set(ref, v) {
+		r.give(integer(0))
 	}
-	c.Value = v
-	r.give(integer(0))
 }
 
 func (r *run) tell(label int, n int64) {
-	r.trace = append(r.trace, api.Event{Label: label, N: n})
+	r.Tell(label, n)
 	r.give(integer(0))
 }
 

@@ -1,4 +1,4 @@
-package eval
+package runs
 
 import (
 	"slices"
@@ -7,8 +7,8 @@ import (
 	"palisade/walk"
 )
 
-// outcome tells how the run has ended. Values shared memory while it went on, and are told in memory of their own.
-func (r *run) outcome() api.Outcome {
+// Outcome tells how the run has ended. Values shared memory while it went on, and are told in memory of their own.
+func (r *Run) Outcome() api.Outcome {
 	for i, cell := range r.cells {
 		r.cells[i] = api.Cell{Type: ownType(cell.Type), Value: ownValue(cell.Value)}
 	}
