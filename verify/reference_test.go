@@ -131,116 +131,156 @@ type refEffect struct {
 
 // refStep goes by the list of instructions in the chapter, one after the other.
 func refStep(c api.Class, k, at int) refEffect {
-	l, f := c.Lattice, c.Funcs[k]
-	ins, point := f.Code[at], f.Points[at]
-	e, stack, slots := point.Env, slices.Clone(point.Stack), slices.Clone(point.Slots)
-	made := refEffect{k: none, p: none, ok: true}
-	need := func(holds bool) { made.ok = made.ok && holds }
-	bottom := lattice.Bottom(l)
-	join := func(labels ...int) int {
-		all := bottom
-		for _, label := range labels {
-			all = lattice.Join(l, all, label)
-		}
-		return all
+	f := c.Funcs[k]
+	p := &refPlace{c: c, f: f, l: c.Lattice, i: f.Code[at], e: f.Points[at].Env}
+	p.stack, p.slots = slices.Clone(f.Points[at].Stack), slices.Clone(f.Points[at].Slots)
+	p.made = refEffect{k: none, p: none, ok: true}
+	p.plain()
+	p.funs()
+	p.cells()
+	p.ways()
+	for _, t := range p.pushed {
+		p.stack = append(p.stack, types.Raise(p.l, t, p.e))
 	}
-	// pop answers a type of that Kind (0: of any), also where there is none.
-	pop := func(kind int) api.Type {
-		t := api.Type{Parts: make([]api.Type, 2)}
-		need(len(stack) > 0)
-		if len(stack) > 0 {
-			top := stack[len(stack)-1]
-			stack = stack[:len(stack)-1]
-			need(kind == 0 || kind == top.Kind)
-			if kind == 0 || kind == top.Kind {
-				return top
-			}
+	for i := range p.stack {
+		if p.made.k != none {
+			p.stack[i] = types.Raise(p.l, p.stack[i], p.made.k)
 		}
-		return t
 	}
-	var pushed []api.Type
-	push := func(t api.Type, label int) { pushed = append(pushed, types.Raise(l, t, label)) }
-	switch ins.Op {
+	p.made.state = refState{p.stack, p.slots}
+	return p.made
+}
+
+// refPlace is a place at work: what is left on its stack, what is pushed and isn't raised by E yet, and what is made of it.
+type refPlace struct {
+	c                    api.Class
+	f                    api.Func
+	l                    api.Lattice
+	i                    api.Ins
+	e                    int
+	stack, slots, pushed []api.Type
+	made                 refEffect
+}
+
+func (p *refPlace) need(holds bool) {
+	p.made.ok = p.made.ok && holds
+}
+
+func (p *refPlace) join(labels ...int) int {
+	all := lattice.Bottom(p.l)
+	for _, label := range labels {
+		all = lattice.Join(p.l, all, label)
+	}
+	return all
+}
+
+// leq tells whether all these labels are below the bound.
+func (p *refPlace) leq(bound int, labels ...int) bool {
+	return lattice.Leq(p.l, p.join(labels...), bound)
+}
+
+// pop answers a type of that Kind (0: of any), also where there is none.
+func (p *refPlace) pop(kind int) api.Type {
+	p.need(len(p.stack) > 0)
+	if len(p.stack) > 0 {
+		top := p.stack[len(p.stack)-1]
+		p.stack = p.stack[:len(p.stack)-1]
+		if kind == 0 || kind == top.Kind {
+			return top
+		}
+		p.need(false)
+	}
+	return api.Type{Parts: make([]api.Type, 2)}
+}
+
+func (p *refPlace) push(t api.Type, labels ...int) {
+	p.pushed = append(p.pushed, types.Raise(p.l, t, p.join(labels...)))
+}
+
+// plain does what Ints, Bools, Pairs and slots need.
+func (p *refPlace) plain() {
+	bottom := p.join()
+	switch p.i.Op {
 	case api.OpInt:
-		push(api.Type{Kind: api.Int, Label: bottom}, bottom)
+		p.push(api.Type{Kind: api.Int, Label: bottom})
 	case api.OpBool:
-		push(api.Type{Kind: api.Bool, Label: bottom}, bottom)
+		p.push(api.Type{Kind: api.Bool, Label: bottom})
 	case api.OpLoad:
-		need(slots[ins.A].Kind != 0)
-		push(slots[ins.A], bottom)
+		p.need(p.slots[p.i.A].Kind != 0)
+		p.push(p.slots[p.i.A])
 	case api.OpStore:
-		slots[ins.A] = types.Raise(l, pop(0), e)
+		p.slots[p.i.A] = types.Raise(p.l, p.pop(0), p.e)
 	case api.OpPop:
-		pop(0)
-	case api.OpAdd, api.OpSub, api.OpMul, api.OpDiv, api.OpMod, api.OpLess, api.OpSame:
-		second := pop(api.Int)
-		first := pop(api.Int)
-		kind := map[bool]int{false: api.Int, true: api.Bool}[ins.Op == api.OpLess || ins.Op == api.OpSame]
-		push(api.Type{Kind: kind, Label: join(first.Label, second.Label)}, bottom)
-		if ins.Op == api.OpDiv || ins.Op == api.OpMod {
-			made.k = join(second.Label, e)
-			made.p = made.k
+		p.pop(0)
+	case api.OpAdd, api.OpSub, api.OpMul, api.OpDiv, api.OpMod:
+		second := p.pop(api.Int)
+		p.push(api.Type{Kind: api.Int, Label: p.join(p.pop(api.Int).Label, second.Label)})
+		if p.i.Op == api.OpDiv || p.i.Op == api.OpMod {
+			p.made.k = p.join(second.Label, p.e)
+			p.made.p = p.made.k
 		}
+	case api.OpLess, api.OpSame:
+		second := p.pop(api.Int)
+		p.push(api.Type{Kind: api.Bool, Label: p.join(p.pop(api.Int).Label, second.Label)})
 	case api.OpNot:
-		push(pop(api.Bool), bottom)
+		p.push(p.pop(api.Bool))
 	case api.OpPair:
-		second := pop(0)
-		push(api.Type{Kind: api.Pair, Label: bottom, Parts: []api.Type{pop(0), second}}, bottom)
+		second := p.pop(0)
+		p.push(api.Type{Kind: api.Pair, Label: bottom, Parts: []api.Type{p.pop(0), second}})
 	case api.OpFirst, api.OpSecond:
-		from := pop(api.Pair)
-		push(from.Parts[ins.Op-api.OpFirst], from.Label)
+		from := p.pop(api.Pair)
+		p.push(from.Parts[p.i.Op-api.OpFirst], from.Label)
+	}
+}
+
+func (p *refPlace) funs() {
+	switch p.i.Op {
 	case api.OpClose:
-		g := c.Funcs[ins.A]
+		g := p.c.Funcs[p.i.A]
 		for i := len(g.Caps) - 1; i >= 0; i-- {
-			need(types.Below(l, pop(0), g.Caps[i]))
+			p.need(types.Below(p.l, p.pop(0), g.Caps[i]))
 		}
-		push(value.TypeOf(l, g), bottom)
+		p.push(value.TypeOf(p.l, g))
 	case api.OpSelf:
-		push(value.TypeOf(l, f), bottom)
+		p.push(value.TypeOf(p.l, p.f))
 	case api.OpCall:
-		given := pop(0)
-		called := pop(api.Fun)
-		need(types.Below(l, given, called.Parts[0]))
-		label := join(called.Label, e)
-		need(lattice.Leq(l, label, called.Heap) && lattice.Leq(l, f.Heap, called.Heap))
-		push(called.Parts[1], label)
+		given := p.pop(0)
+		called := p.pop(api.Fun)
+		p.need(types.Below(p.l, given, called.Parts[0]) && p.leq(called.Heap, called.Label, p.e, p.f.Heap))
+		p.push(called.Parts[1], called.Label, p.e)
 		if called.Exc != none {
-			made.k = join(called.Exc, label)
-			made.p = made.k
+			p.made.k = p.join(called.Exc, called.Label, p.e)
+			p.made.p = p.made.k
 		}
+	}
+}
+
+func (p *refPlace) cells() {
+	switch p.i.Op {
 	case api.OpNew:
-		need(types.Below(l, pop(0), ins.T))
-		push(api.Type{Kind: api.Ref, Label: bottom, Parts: []api.Type{ins.T}}, bottom)
+		p.need(types.Below(p.l, p.pop(0), p.i.T))
+		p.push(api.Type{Kind: api.Ref, Label: p.join(), Parts: []api.Type{p.i.T}})
 	case api.OpGet:
-		from := pop(api.Ref)
-		push(from.Parts[0], from.Label)
+		from := p.pop(api.Ref)
+		p.push(from.Parts[0], from.Label)
 	case api.OpSet:
-		given := types.Raise(l, pop(0), e)
-		into := pop(api.Ref)
+		given := types.Raise(p.l, p.pop(0), p.e)
+		into := p.pop(api.Ref)
 		holds := into.Parts[0]
-		need(types.Below(l, given, holds))
-		need(lattice.Leq(l, into.Label, holds.Label) && lattice.Leq(l, e, holds.Label) && lattice.Leq(l, f.Heap, holds.Label))
+		p.need(types.Below(p.l, given, holds) && p.leq(holds.Label, into.Label, p.e, p.f.Heap))
 	case api.OpOut:
-		told := pop(api.Int)
-		to := int(ins.A)
-		need(lattice.Leq(l, told.Label, to) && lattice.Leq(l, e, to) && lattice.Leq(l, f.Heap, to))
-	case api.OpJump:
+		p.need(p.leq(int(p.i.A), p.pop(api.Int).Label, p.e, p.f.Heap))
+	}
+}
+
+func (p *refPlace) ways() {
+	switch p.i.Op {
 	case api.OpUnless:
-		made.k = join(pop(api.Bool).Label, e)
+		p.made.k = p.join(p.pop(api.Bool).Label, p.e)
 	case api.OpRaise:
-		made.p = join(pop(api.Int).Label, e)
+		p.made.p = p.join(p.pop(api.Int).Label, p.e)
 	case api.OpReturn:
-		given := types.Raise(l, pop(0), e)
-		need(len(stack) == 0 && types.Below(l, given, f.Result))
+		given := types.Raise(p.l, p.pop(0), p.e)
+		p.need(len(p.stack) == 0 && types.Below(p.l, given, p.f.Result))
 	}
-	for _, t := range pushed {
-		stack = append(stack, types.Raise(l, t, e))
-	}
-	for i := range stack {
-		if made.k != none {
-			stack[i] = types.Raise(l, stack[i], made.k)
-		}
-	}
-	made.state = refState{stack, slots}
-	return made
 }
