@@ -73,6 +73,11 @@ func (r *Run) Fits(v api.Value) bool {
 	return true
 }
 
+// Cells is how many there are.
+func (r *Run) Cells() int {
+	return len(r.cells)
+}
+
 // NewCell is the Ref of a cell behind all others.
 func (r *Run) NewCell(t api.Type, v api.Value) api.Value {
 	r.cells = append(r.cells, api.Cell{Type: t, Value: v})

@@ -111,8 +111,8 @@ func TestCells(t *testing.T) {
 	if !r.Set(ref(0), integer(3)) {
 		t.Error("there is no cell")
 	}
-	if made := r.NewCell(typ, integer(9)); !reflect.DeepEqual(made, ref(1)) {
-		t.Error(made)
+	if made := r.NewCell(typ, integer(9)); !reflect.DeepEqual(made, ref(1)) || r.Cells() != 2 {
+		t.Error(made, r.Cells())
 	}
 	if v, ok := r.Get(ref(1)); !ok || v.N != 9 || !r.Set(ref(0), integer(4)) || !r.Goes() {
 		t.Error(v, ok)
