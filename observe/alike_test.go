@@ -88,7 +88,7 @@ func TestMovedDrawn(t *testing.T) {
 // TestAlikeBelow (P19.2): two drawn beginnings of the same types, that fit: what one observer sees as alike, each one below does, both where all cells are seeds and where they are met by the argument alone.
 func TestAlikeBelow(t *testing.T) {
 	counts := map[bool]int{}
-	accepted(195, 600, func(d *drawer) {
+	accepted(195, 400, func(d *drawer) {
 		for range 6 {
 			q, ok := d.given()
 			if !ok {
@@ -110,7 +110,7 @@ func TestAlikeBelow(t *testing.T) {
 			}
 		}
 	})
-	if counts[true] < 1000 || counts[false] < 1000 {
+	if counts[true] < 1000 || counts[false] < 500 {
 		t.Error("too few:", counts)
 	}
 }

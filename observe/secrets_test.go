@@ -92,7 +92,7 @@ func (f *flows) count(q question, label int, one, two api.Outcome) {
 // TestNoSecretFlows (P19.3): drawn accepted classes, each run twice with what is alike to an observer.
 func TestNoSecretFlows(t *testing.T) {
 	f := &flows{t, map[string]int{}}
-	accepted(193, 2000, func(d *drawer) {
+	accepted(193, 1300, func(d *drawer) {
 		f.counts["classes"]++
 		for range 5 {
 			q, ok := d.given()
@@ -104,7 +104,7 @@ func TestNoSecretFlows(t *testing.T) {
 		}
 	})
 	for what, least := range map[string]int{
-		"classes": 500, "ended": 3000, "events": 1000, "raised": 500, "results": 2000, "raises": 400, "unlike ends": 80, "unlike events": 300, "unlike steps": 300, "cells": 90,
+		"classes": 400, "ended": 2500, "events": 900, "raised": 350, "results": 1500, "raises": 250, "unlike ends": 50, "unlike events": 250, "unlike steps": 250, "cells": 30,
 	} {
 		if f.counts[what] < least {
 			t.Error("too few:", what, f.counts[what])
